@@ -1,0 +1,1 @@
+"""Knewby: who can have known what by which hour."""
