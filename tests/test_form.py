@@ -171,6 +171,30 @@ class Form(unittest.TestCase):
                     if hasattr(builtins, node.id):
                         self.assertIn(node.id, ALLOWED_BUILTINS, (path, node.lineno))
 
+    def test_no_local_is_called_like_an_import_or_a_class_of_its_file(self):
+        for path, text, tree in self.each_file():
+            taken = {one.name for node in tree.body if isinstance(node, ast.ImportFrom) for one in node.names}
+            taken |= {node.name for node in tree.body if isinstance(node, ast.ClassDef)}
+            inner = [node for node in tree.body if isinstance(node, (ast.FunctionDef, ast.ClassDef))]
+            for name in [name for node in inner for part in node.body for name in names_bound(part)]:
+                self.assertNotIn(name, taken, path)
+            for node in ast.walk(tree):
+                if isinstance(node, ast.arg):
+                    self.assertNotIn(node.arg, taken, (path, node.lineno))
+
+    def test_sets_are_neither_kept_nor_walked(self):
+        for path, text, tree in self.each_file():
+            for node in ast.walk(tree):
+                if isinstance(node, ast.Assign):
+                    made = node.value
+                elif isinstance(node, (ast.For, ast.comprehension)):
+                    made = node.iter
+                else:
+                    continue
+                is_made = isinstance(made, ast.Call) and isinstance(made.func, ast.Name)
+                self.assertFalse(is_made and made.func.id in ("set", "frozenset"), path)
+                self.assertNotIsInstance(made, ast.Set, path)
+
     def test_methods_and_values(self):
         methods, values, called = set(), set(), set()
         for path, text, tree in self.each_file():
