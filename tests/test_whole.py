@@ -7,80 +7,17 @@ import unittest
 
 from knewby.bars import floor_of, open_sights, open_tellings
 from knewby.books import Book
+from knewby.cuts import talk_cut
 from knewby.earliest import earliest, earliest_story
+from knewby.errors import NoStory
 from knewby.hourpapers import is_paper, settled
+from knewby.latest import latest
+from knewby.lines import apart_lines, is_line
+from knewby.needed import needed, story_without
 from knewby.stories import is_story, unfitted
+from tests.things import broken_by, busy_book, choices, follows, opened, some_book, some_books
 
-NAMES = ["dora", "ann", "cleo", "bert"]
 TALE = ("fire",)
-
-
-def some_saying(chance, persons, hours):
-    person, other = chance.sample(persons, 2)
-    begin, end = sorted([chance.randrange(hours), chance.randrange(hours)])
-    return chance.choice([
-        ("knew", person, end),
-        ("unheard", person, chance.choice([begin, begin, None])),
-        ("silent", person, begin, end),
-        ("barred", person, other),
-    ])
-
-
-def some_book(chance, count, hours):
-    persons = NAMES[:count]
-    sights = [(chance.choice(persons), chance.randrange(hours), TALE) for k in range(chance.randrange(4))]
-    talks = []
-    for k in range(chance.randrange(6)):
-        one, other = chance.sample(persons, 2)
-        talks.append((chance.randrange(hours), one, other, chance.choice(["both", "one"])))
-    sayings = [some_saying(chance, persons, hours) for k in range(chance.randrange(6))]
-    return Book(persons, sights, talks, sayings)
-
-
-def ways_of(book, person):
-    ways = [(person, sight[1], ("saw", i)) for i, sight in enumerate(book.sights()) if sight[0] == person]
-    for k, (hour, one, other, way) in enumerate(book.talks()):
-        if other == person:
-            ways.append((person, hour, ("heard", k, one)))
-        if one == person and way == "both":
-            ways.append((person, hour, ("heard", k, other)))
-    return ways
-
-
-def choices(book):
-    """Each person by one of its ways, or left out."""
-    persons = sorted(book.persons())
-    for chosen in itertools.product(*[[None] + ways_of(book, person) for person in persons]):
-        yield [entry for entry in chosen if entry is not None]
-
-
-def follows(some):
-    """Whether each one that heard has its teller there at an earlier hour."""
-    hours = {person: hour for person, hour, way in some}
-    return all(way[0] == "saw" or hours.get(way[2], hour) < hour for person, hour, way in some)
-
-
-def breaks(story, saying):
-    told = [(person, hour, way[2]) for person, hour, way in story if way[0] == "heard"]
-    hours = [hour for person, hour, way in story if person == saying[1]]
-    if saying[0] == "knew":
-        return hours == [] or hours[0] > saying[2]
-    if saying[0] == "unheard":
-        return hours != [] and (saying[2] is None or hours[0] <= saying[2])
-    if saying[0] == "silent":
-        return any(teller == saying[1] and saying[2] <= hour <= saying[3] for person, hour, teller in told)
-    return any((person, teller) == saying[1:] for person, hour, teller in told)
-
-
-def broken_by(book, story):
-    return [k for k, saying in enumerate(book.sayings()) if breaks(story, saying)]
-
-
-def opened(book):
-    """The open sights and tellings, as a story would hold them: those that alone break no saying but of knew."""
-    entries = [entry for person in book.persons() for entry in ways_of(book, person)]
-    bars = [saying for saying in book.sayings() if saying[0] != "knew"]
-    return [entry for entry in entries if not any(breaks([entry], saying) for saying in bars)]
 
 
 def as_late(hour):
@@ -95,21 +32,16 @@ def walks(book, hours):
     return True
 
 
-def books(count):
-    chance = random.Random(20261116)
-    return [some_book(chance, chance.choice([2, 3, 4]), chance.choice([3, 6])) for k in range(count)]
-
-
 class Small(unittest.TestCase):
     def test_stories_and_what_they_do_not_fit(self):
-        for book in books(150):
+        for book in some_books(150):
             for some in choices(book):
                 self.assertIs(follows(some), is_story(book, some), (book.talks(), some))
                 if follows(some):
                     self.assertEqual(broken_by(book, some), unfitted(book, some))
 
     def test_open_ones_are_those_of_stories_that_fit_all_but_knew(self):
-        for book in books(150):
+        for book in some_books(150):
             talks, sights = book.talks(), book.sights()
             found = [(sights[i][0], sights[i][1], ("saw", i)) for i in open_sights(book)]
             found += [(hearer, talks[k][0], ("heard", k, teller)) for k, teller, hearer in open_tellings(book)]
@@ -120,7 +52,7 @@ class Small(unittest.TestCase):
                 self.assertIs(fits_bars, all(entry in found for entry in story))
 
     def test_earliest_hours_and_story(self):
-        for book in books(400):
+        for book in some_books(400):
             entries = opened(book)
             stories = [some for some in choices(book) if follows(some) and all(one in entries for one in some)]
             least = {}
@@ -159,7 +91,7 @@ class Small(unittest.TestCase):
 
     def test_settled(self):
         found = {"story": 0, "paper": 0}
-        for book in books(400):
+        for book in some_books(400):
             knew = [k for k, saying in enumerate(book.sayings()) if saying[0] == "knew"]
             broken = [broken_by(book, some) for some in choices(book) if follows(some)]
             # What is left of knew-sayings in each story that fits all the others.
@@ -177,11 +109,87 @@ class Small(unittest.TestCase):
         self.assertGreater(min(found.values()), 50)
 
 
+def held_books(count):
+    """Busy books with a saying more, that somebody knew by its earliest hour or somewhat later."""
+    chance = random.Random(29)
+    made = []
+    while len(made) < count:
+        book = busy_book(chance, chance.choice([3, 4]), chance.choice([4, 7]), 7)
+        known = [(person, hour) for person, hour in earliest(book) if hour is not None]
+        if known:
+            person, hour = chance.choice(known)
+            made.append(book.with_saying(("knew", person, hour + chance.randrange(4))))
+    return made
+
+
+def fitting(book):
+    return [some for some in choices(book) if follows(some) and broken_by(book, some) == []]
+
+
+class SmallHeld(unittest.TestCase):
+    """Each question is asked of books with all stories that fit walked beside it, of those that none fits too."""
+
+    @classmethod
+    def setUpClass(cls):
+        cls.walked = [(book, fitting(book)) for book in held_books(250) + some_books(100)]
+
+    def test_latest_hours(self):
+        told_hours, torn = 0, 0
+        for book, stories in self.walked:
+            for person in book.persons():
+                if not stories:
+                    torn += 1
+                    self.assertRaises(NoStory, latest, book, person)
+                    continue
+                hours = [dict(entry[:2] for entry in story).get(person) for story in stories]
+                last = None if None in hours else max(hours)
+                hour, story = latest(book, person)
+                self.assertEqual(last, hour, (book.talks(), book.sayings(), person))
+                self.assertIn(story, stories)
+                self.assertEqual(last, dict(entry[:2] for entry in story).get(person))
+                told_hours += last is not None and last > min(hours)
+        self.assertGreater(min(told_hours, torn), 30)
+
+    def test_needed_ones(self):
+        counts = []
+        for book, stories in self.walked:
+            if not stories:
+                self.assertRaises(NoStory, needed, book)
+                for person in book.persons():
+                    self.assertRaises(NoStory, story_without, book, person)
+                continue
+            tellers = [{way[2] for person, hour, way in story if way[0] == "heard"} for story in stories]
+            names = [person for person in sorted(book.persons()) if all(person in row for row in tellers)]
+            self.assertEqual(names, needed(book), (book.talks(), book.sayings()))
+            counts.append(len(names))
+            for person in book.persons():
+                story = story_without(book, person)
+                if person in names:
+                    self.assertIsNone(story)
+                else:
+                    self.assertIn(story, stories)
+                    self.assertNotIn(person, tellers[stories.index(story)])
+        self.assertGreater(min(counts.count(0), counts.count(1), counts.count(2)), 5)
+
+    def test_by_an_hour_in_all_stories_and_in_some(self):
+        for book, stories in [(book, stories) for book, stories in self.walked if stories]:
+            early = dict(earliest(book))
+            for person in book.persons():
+                late = latest(book, person)[0]
+                known = [as_late(dict(entry[:2] for entry in story).get(person)) for story in stories]
+                for hour in range(-1, 9):
+                    in_all = all(one <= hour for one in known)
+                    in_some = any(one <= hour for one in known)
+                    self.assertIs(in_all, late is not None and late <= hour, (book.talks(), person, hour))
+                    self.assertIs(in_some, early[person] is not None and early[person] <= hour)
+
+
 PERSONS = ["dora", "ann", "cleo", "bert"]
 SIGHTS = [("ann", 2, TALE), ("bert", 9, TALE)]
 TALKS = [(4, "ann", "bert", "both"), (6, "bert", "cleo", "one"), (1, "cleo", "dora", "one")]
 FITTED = [("knew", "cleo", 6), ("unheard", "ann", 1), ("silent", "dora", 2, 5), ("barred", "ann", "dora")]
 TORN = [("unheard", "dora", None), ("knew", "cleo", 3), ("knew", "dora", 9)]
+LINE = [(0, "ann", "bert"), (1, "bert", "cleo")]
 STORY = [("ann", 2, ("saw", 0)), ("bert", 4, ("heard", 0, "ann")), ("cleo", 6, ("heard", 1, "bert"))]
 PAPER = [("ann", 2), ("bert", 4), ("cleo", 6), ("dora", None)]
 
@@ -189,13 +197,28 @@ PAPER = [("ann", 2), ("bert", 4), ("cleo", 6), ("dora", None)]
 def answers(book):
     return [
         open_sights(book), open_tellings(book), unfitted(book, list(STORY)), earliest(book), earliest_story(book),
-        settled(book)[1],
+        settled(book)[1], *line_answers(book), *held_answers(book),
     ]
+
+
+def line_answers(book):
+    lines = apart_lines(book, "cleo", 8)
+    return lines + [lines, talk_cut(book, "cleo", 8)]
+
+
+def held_answers(book):
+    if settled(book)[0] == "paper":
+        return []
+    stories = [story_without(book, person) for person in ("cleo", "dora")]
+    return stories + [latest(book, person)[1] for person in PERSONS] + [needed(book)]
 
 
 def all_told(book):
     told = [floor_of(book, person) for person in PERSONS]
     told += [is_story(book, list(STORY)), is_paper(book, list(PAPER)), settled(book)]
+    told += [is_line(book, list(LINE), "cleo", hour) for hour in (5, 6)]
+    if told[-3][0] == "story":
+        told += [latest(book, person) for person in PERSONS] + [story_without(book, person) for person in PERSONS]
     return told + answers(book)
 
 
@@ -217,6 +240,7 @@ class NothingShared(unittest.TestCase):
             for rows in answers(book):
                 rows.append("spoilt")
                 rows[0] = "spoilt"
+                rows.reverse()
             for rows in answers(book):
                 rows.clear()
             self.assertEqual(kept, all_told(book))
@@ -247,6 +271,10 @@ class NothingShared(unittest.TestCase):
             story = list(STORY)
             unfitted(book, story)
             self.assertEqual(STORY, story)
+            for some in (list(LINE), LINE[::-1], LINE + LINE, []):
+                before = copy.deepcopy(some)
+                is_line(book, some, "cleo", 8)
+                self.assertEqual(before, some)
             for some in (list(PAPER), PAPER[::-1], PAPER + PAPER, []):
                 before = copy.deepcopy(some)
                 is_paper(book, some)
